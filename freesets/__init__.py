@@ -1,0 +1,1 @@
+"""Freesets: what may stand together, and what changes places with what."""

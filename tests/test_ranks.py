@@ -1,0 +1,111 @@
+"""Point 7: rank, grown, reach and ring."""
+
+import unittest
+from random import Random
+
+from freesets.ranks import grown, rank, reach, ring
+from freesets.rules import Bits, Kinds, Posts, Threads
+from tests import samples, words
+
+
+def grown_by_the_words(rule, some):
+    taken = []
+    for thing in some:
+        if rule.free(sorted(taken + [thing])):
+            taken.append(thing)
+    return taken
+
+
+class TableTest(unittest.TestCase):
+    """Each answer against tables of the free sets and the ranks of all sets."""
+
+    def check_set(self, rule, ranks, some):
+        mask = words.mask_of(some)
+        for handed in words.orders(some):
+            before = list(handed)
+            self.assertEqual(rank(rule, handed), ranks[mask])
+            self.assertEqual(grown(rule, handed), grown_by_the_words(rule, handed))
+            self.assertEqual(reach(rule, handed), words.reach_of(ranks, rule.many(), mask))
+            self.assertEqual(handed, before)
+
+    def check_rings(self, rule, free, some):
+        for thing in range(rule.many()):
+            if thing in some:
+                continue
+            found = words.rings_in(free, words.mask_of(some + [thing]))
+            self.assertLessEqual(len(found), 1)
+            wanted = found[0] if found else []
+            for handed in words.orders(some):
+                before = list(handed)
+                self.assertEqual(ring(rule, handed, thing), wanted)
+                self.assertEqual(handed, before)
+            if wanted:
+                self.assertIn(thing, wanted)
+
+    def test_small_grounds(self):
+        for rule in samples.small_rules():
+            with self.subTest(rule=vars(rule)):
+                free = words.free_table(rule)
+                ranks = words.rank_table(free)
+                for some in words.sets_of(rule.many()):
+                    self.check_set(rule, ranks, some)
+                    if free[words.mask_of(some)]:
+                        self.check_rings(rule, free, some)
+
+    def test_grounds_of_sixteen_things(self):
+        for rule in samples.great_rules():
+            with self.subTest(rule=vars(rule)):
+                self.assertEqual(rule.many(), 16)
+                free = words.free_table(rule)
+                ranks = words.rank_table(free)
+                source = Random(16)
+                chosen = [source.sample(range(16), count) for count in range(17) for turn in range(6)]
+                for some in chosen:
+                    self.check_set(rule, ranks, sorted(some))
+                for some in chosen[::3]:
+                    self.check_rings(rule, free, grown_by_the_words(rule, some))
+
+
+class RanksTest(unittest.TestCase):
+    def setUp(self):
+        self.triangle = Threads(4, [(0, 1), (1, 2), (2, 0), (2, 3), (3, 3)])
+
+    def test_rank(self):
+        self.assertEqual(rank(self.triangle, []), 0)
+        self.assertEqual(rank(self.triangle, [4]), 0)
+        self.assertEqual(rank(self.triangle, [2, 0, 1]), 2)
+        self.assertEqual(rank(self.triangle, [4, 3, 2, 1, 0]), 3)
+
+    def test_rank_is_a_number(self):
+        self.assertIs(type(rank(self.triangle, [0])), int)
+
+    def test_grown_looks_in_the_order_handed_in(self):
+        self.assertEqual(grown(self.triangle, [0, 1, 2, 3, 4]), [0, 1, 3])
+        self.assertEqual(grown(self.triangle, [4, 3, 2, 1, 0]), [3, 2, 1])
+        self.assertEqual(grown(self.triangle, [1, 4, 0, 2]), [1, 0])
+        self.assertEqual(grown(self.triangle, []), [])
+
+    def test_reach_has_its_own_things_and_those_free_by_no_set(self):
+        self.assertEqual(reach(self.triangle, []), [4])
+        self.assertEqual(reach(self.triangle, [2, 1]), [0, 1, 2, 4])
+        self.assertEqual(reach(self.triangle, [2, 1, 0]), [0, 1, 2, 4])
+        self.assertEqual(reach(self.triangle, [3, 0]), [0, 3, 4])
+        self.assertEqual(reach(self.triangle, [3, 1, 0]), [0, 1, 2, 3, 4])
+
+    def test_ring(self):
+        self.assertEqual(ring(self.triangle, [3, 2, 1], 0), [0, 1, 2])
+        self.assertEqual(ring(self.triangle, [3, 1], 4), [4])
+        self.assertEqual(ring(self.triangle, [], 4), [4])
+        self.assertEqual(ring(self.triangle, [3, 1], 0), [])
+        self.assertEqual(ring(self.triangle, [], 0), [])
+
+    def test_rings_of_the_other_sorts(self):
+        self.assertEqual(ring(Kinds([0, 1, 0, 0], [2, 1]), [3, 1, 2], 0), [0, 2, 3])
+        self.assertEqual(ring(Posts([[0], [0, 1], [1], [2]]), [3, 2, 0], 1), [0, 1, 2])
+        self.assertEqual(ring(Bits([1, 2, 4, 5]), [2, 1, 0], 3), [0, 2, 3])
+
+    def test_a_ground_of_no_things(self):
+        for rule in (Threads(1, []), Kinds([], []), Posts([]), Bits([])):
+            self.assertEqual(rank(rule, []), 0)
+            self.assertEqual(grown(rule, []), [])
+            self.assertEqual(reach(rule, []), [])
