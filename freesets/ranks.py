@@ -15,7 +15,8 @@ def grown(rule, some):
     for thing in some:
         if rule.free(taken + [thing]):
             taken.append(thing)
-    return taken
+    # The order handed in settles what is taken, but a set is told as a rising list.
+    return sorted(taken)
 
 
 def reach(rule, some):

@@ -13,7 +13,7 @@ def grown_by_the_words(rule, some):
     for thing in some:
         if rule.free(sorted(taken + [thing])):
             taken.append(thing)
-    return taken
+    return sorted(taken)
 
 
 class TableTest(unittest.TestCase):
@@ -79,10 +79,11 @@ class RanksTest(unittest.TestCase):
     def test_rank_is_a_number(self):
         self.assertIs(type(rank(self.triangle, [0])), int)
 
-    def test_grown_looks_in_the_order_handed_in(self):
+    def test_grown_looks_in_the_order_handed_in_and_tells_a_rising_list(self):
         self.assertEqual(grown(self.triangle, [0, 1, 2, 3, 4]), [0, 1, 3])
-        self.assertEqual(grown(self.triangle, [4, 3, 2, 1, 0]), [3, 2, 1])
-        self.assertEqual(grown(self.triangle, [1, 4, 0, 2]), [1, 0])
+        self.assertEqual(grown(self.triangle, [4, 3, 2, 1, 0]), [1, 2, 3])
+        self.assertEqual(grown(self.triangle, [1, 4, 0, 2]), [0, 1])
+        self.assertEqual(grown(Kinds([0, 0], [2]), [1, 0]), [0, 1])
         self.assertEqual(grown(self.triangle, []), [])
 
     def test_reach_has_its_own_things_and_those_free_by_no_set(self):
