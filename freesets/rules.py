@@ -4,6 +4,7 @@ from freesets.checks import check_set, is_within
 from freesets.errors import BadRule
 
 MOST_THINGS = 16
+MOST_RULES = 8
 MOST_PLACES = 20
 MOST_OF_A_KIND = 16
 HIGHEST_POST = 30
@@ -18,6 +19,10 @@ class Rule:
 
     def free(self, some):
         raise BadRule("a Rule is not made itself")
+
+    def rank_of(self, mask):
+        """The rank of a mask, if the rule has a shorter way to it than to ask what is free; else None."""
+        return None
 
 
 class Threads(Rule):
@@ -114,6 +119,20 @@ class Bits(Rule):
                 return False
             taken.append(row)
         return True
+
+
+def check_rule(rule):
+    if not isinstance(rule, Rule):
+        raise BadRule("what stands for a rule is none")
+
+
+def check_rules(rules):
+    if not isinstance(rules, list) or not is_within(len(rules), 1, MOST_RULES):
+        raise BadRule("rules are handed in as a list of 1 to 8 of them")
+    for rule in rules:
+        check_rule(rule)
+    if any([rule.many() != rules[0].many() for rule in rules]):
+        raise BadRule("the rules are over grounds of one size")
 
 
 def check_ground(things):

@@ -1,7 +1,8 @@
 """Rules of every sort over the grounds, for the tests that ask the same of all sorts."""
 
+from freesets.made import Beside, Cut, Held, Joined, Kept, Turned
 from freesets.rules import Bits, Kinds, Posts, Threads
-from tests import grounds
+from tests import grounds, words, words_made
 
 
 def small_rules():
@@ -24,3 +25,64 @@ def great_rules():
         Posts(grounds.posts_great()),
         Bits(grounds.bits_great()),
     ]
+
+
+def few_rules():
+    """A few small rules of each sort, of 0 to 5 things, for the tests that ask much of each."""
+    return [
+        Threads(1, []), Threads(1, [(0, 0)]), Threads(2, [(0, 1), (1, 0)]), Threads(3, [(0, 1), (1, 2), (2, 0)]),
+        Threads(4, [(0, 1), (1, 2), (2, 0), (3, 2)]), Threads(3, [(0, 1), (0, 1), (1, 2), (2, 0), (1, 1)]),
+        Kinds([], [2]), Kinds([0], [0]), Kinds([0, 1], [1, 0]), Kinds([0, 0, 1], [1, 16]),
+        Kinds([1, 0, 0, 1], [1, 1]), Kinds([0, 0, 0, 0, 0], [2]), Kinds([0, 1, 0, 1, 2], [1, 2, 0]),
+        Posts([]), Posts([[4]]), Posts([[], [0, 30]]), Posts([[0, 1], [1], [0]]),
+        Posts([[0], [0, 1], [1], [2, 1]]), Posts([[7, 3], [3], [7], [], [3, 7, 9]]),
+        Bits([]), Bits([9]), Bits([5, 5]), Bits([1, 2, 3]), Bits([6, 5, 3, 1 << 31]), Bits([1, 3, 7, 4, 0]),
+    ]
+
+
+def of_size(rules, many):
+    return [rule for rule in rules if rule.many() == many]
+
+
+def random_sort(source, many):
+    """A rule of one of the four sorts over a ground of so many things."""
+    few = source.randrange(1, 5)
+    sort = source.randrange(4)
+    if sort == 0:
+        return Threads(few + 1, [(source.randrange(few + 1), source.randrange(few + 1)) for thing in range(many)])
+    if sort == 1:
+        most = [source.randrange(4) for kind in range(few)]
+        return Kinds([source.randrange(few) for thing in range(many)], most)
+    if sort == 2:
+        return Posts([source.sample(range(few), source.randrange(min(few, 3) + 1)) for thing in range(many)])
+    return Bits([source.randrange(1 << few) for thing in range(many)])
+
+
+def random_made(source, many, depth, most):
+    """A rule made of rules so deep, over so many things out of grounds of at most so many, and its table."""
+    if depth == 0:
+        rule = random_sort(source, many)
+        return rule, words.free_table(rule)
+    way = source.choice(["turned", "cut", "kept", "held", "beside", "joined", "joined"])
+    if way == "turned":
+        rule, free = random_made(source, many, depth - 1, most)
+        return Turned(rule), words_made.turned(free)
+    if way == "cut":
+        rule, free = random_made(source, many, depth - 1, most)
+        bound = source.choice([0, 1, 2, 3, 16])
+        return Cut(rule, bound), words_made.cut(free, bound)
+    if way == "kept" or way == "held":
+        greater = source.randrange(many, most + 1)
+        rule, free = random_made(source, greater, depth - 1, most)
+        if way == "kept":
+            some = source.sample(range(greater), many)
+            return Kept(rule, some), words_made.kept(free, some)
+        some = source.sample(range(greater), greater - many)
+        return Held(rule, some), words_made.held(free, some)
+    if way == "beside":
+        first = source.randrange(many + 1)
+        one, near = random_made(source, first, depth - 1, most)
+        other, far = random_made(source, many - first, depth - 1, most)
+        return Beside(one, other), words_made.beside(near, far)
+    pairs = [random_made(source, many, depth - 1, most) for turn in range(source.randrange(1, 4))]
+    return Joined([rule for rule, free in pairs]), words_made.joined([free for rule, free in pairs])

@@ -24,12 +24,29 @@ INTERFACE = {
         "rank": ["rule", "some"], "grown": ["rule", "some"], "reach": ["rule", "some"],
         "ring": ["rule", "some", "thing"],
     },
+    "made": {
+        "Turned": {"__init__": ["rule"], "many": [], "free": ["some"]},
+        "Cut": {"__init__": ["rule", "bound"], "many": [], "free": ["some"]},
+        "Kept": {"__init__": ["rule", "some"], "many": [], "free": ["some"]},
+        "Held": {"__init__": ["rule", "some"], "many": [], "free": ["some"]},
+        "Beside": {"__init__": ["one", "other"], "many": [], "free": ["some"]},
+        "Joined": {"__init__": ["rules"], "many": [], "free": ["some"]},
+    },
+    "answers": {
+        "Answer": {}, "Parts": {"__init__": ["parts"]}, "Packs": {"__init__": ["packs"]},
+        "Crowded": {"__init__": ["some"]}, "Bar": {"__init__": ["some"]}, "Common": {"__init__": ["some", "part"]},
+    },
+    "parting": {"parted": ["rules"], "covered": ["rule", "times"], "packed": ["rule", "times"]},
 }
 
 BUILTINS = set(
     "len range enumerate zip min max sum abs sorted reversed int str bool list tuple dict set isinstance ord repr any "
     "all divmod iter next ValueError KeyError IndexError LookupError ZeroDivisionError NotImplementedError "
     "RuntimeError object super property staticmethod classmethod".split())
+BUILTIN_METHODS = set(
+    "append clear copy count endswith extend find get index insert isalnum isalpha isdigit islower isspace isupper "
+    "items join keys ljust lower lstrip partition pop remove replace reverse rfind rjust rpartition rsplit rstrip "
+    "setdefault split splitlines startswith strip update upper values zfill bit_length add discard sort".split())
 BARRED_WORDS = (
     "type typing typing_extensions enum Enum IntEnum StrEnum Flag IntFlag Generic Protocol ABC ABCMeta namedtuple "
     "NamedTuple TypedDict TYPE_CHECKING abstractmethod").split()
@@ -51,13 +68,29 @@ def every(kind):
 
 def names_defined(path):
     """The functions, classes and values that a file itself defines."""
+    return names_bound(ast.Module([node for node in ast.parse(path.read_text()).body
+                                   if not isinstance(node, ast.ImportFrom)], []))
+
+
+def names_bound(tree):
+    """The names that a file binds at module level, as often as it does."""
     found = []
-    for node in ast.parse(path.read_text()).body:
+    for node in tree.body:
         if isinstance(node, (ast.ClassDef, ast.FunctionDef)):
             found.append(node.name)
+        elif isinstance(node, ast.ImportFrom):
+            found.extend(alias.asname or alias.name for alias in node.names)
         elif isinstance(node, ast.Assign):
             found.extend(target.id for target in node.targets)
     return found
+
+
+def methods_defined():
+    return {part.name for name, node in every(ast.ClassDef) for part in node.body if isinstance(part, ast.FunctionDef)}
+
+
+def attributes_stored():
+    return {node.attr for name, node in every(ast.Attribute) if isinstance(node.ctx, ast.Store)}
 
 
 def arguments(function):
@@ -131,7 +164,40 @@ class FormTest(unittest.TestCase):
             self.assertFalse(hasattr(builtins, node.arg) or node.arg.startswith("_"), name)
 
     def test_no_name_is_both_a_method_and_an_attribute(self):
-        methods = {part.name for name, node in every(ast.ClassDef) for part in node.body
-                   if isinstance(part, ast.FunctionDef)}
-        stored = {node.attr for name, node in every(ast.Attribute) if isinstance(node.ctx, ast.Store)}
-        self.assertEqual(methods & stored, set())
+        self.assertEqual(methods_defined() & attributes_stored(), set())
+
+    def test_methods_and_attributes_are_own_ones_or_allowed(self):
+        for name, node in every(ast.Call):
+            if isinstance(node.func, ast.Attribute):
+                self.assertIn(node.func.attr, methods_defined() | BUILTIN_METHODS, name)
+        for name, node in every(ast.Attribute):
+            self.assertIn(node.attr, methods_defined() | attributes_stored() | BUILTIN_METHODS, name)
+        for own in methods_defined() | attributes_stored():
+            for value in (0, "", b"", [], (), {}, set()):
+                self.assertFalse(hasattr(value, own) and own != "__init__", own)
+
+    def test_no_local_name_is_that_of_a_class_or_an_import_of_its_file(self):
+        for name, tree in trees():
+            taken = {node.name for node in tree.body if isinstance(node, ast.ClassDef)}
+            taken |= {alias.name for node in tree.body if isinstance(node, ast.ImportFrom) for alias in node.names}
+            for function in [node for node in ast.walk(tree) if isinstance(node, ast.FunctionDef)]:
+                stored = {node.id for node in ast.walk(function)
+                          if isinstance(node, ast.Name) and isinstance(node.ctx, ast.Store)}
+                self.assertEqual((stored | set(arguments(function))) & taken, set(), name)
+
+    def test_no_two_files_import_from_each_other(self):
+        beneath = {path.stem: {node.module.split(".")[1] for node in ast.parse(path.read_text()).body
+                               if isinstance(node, ast.ImportFrom)} for path in files()}
+        while beneath:
+            ready = [stem for stem, needs in beneath.items() if not needs & set(beneath)]
+            self.assertTrue(ready, beneath)
+            beneath = {stem: needs for stem, needs in beneath.items() if stem not in ready}
+
+    def test_what_stands_at_module_level(self):
+        allowed = (ast.ImportFrom, ast.FunctionDef, ast.ClassDef, ast.Assign)
+        for name, tree in trees():
+            self.assertIsNotNone(ast.get_docstring(tree), name)
+            for node in tree.body[1:]:
+                self.assertIsInstance(node, allowed, name)
+            bound = names_bound(tree)
+            self.assertEqual(len(bound), len(set(bound)), name)

@@ -5,52 +5,14 @@ from random import Random
 
 from freesets.ranks import grown, rank, reach, ring
 from freesets.rules import Bits, Kinds, Posts, Threads
-from tests import samples, words
+from tests import checking, samples, words
 
 
-def grown_by_the_words(rule, some):
-    taken = []
-    for thing in some:
-        if rule.free(sorted(taken + [thing])):
-            taken.append(thing)
-    return sorted(taken)
-
-
-class TableTest(unittest.TestCase):
-    """Each answer against tables of the free sets and the ranks of all sets."""
-
-    def check_set(self, rule, ranks, some):
-        mask = words.mask_of(some)
-        for handed in words.orders(some):
-            before = list(handed)
-            self.assertEqual(rank(rule, handed), ranks[mask])
-            self.assertEqual(grown(rule, handed), grown_by_the_words(rule, handed))
-            self.assertEqual(reach(rule, handed), words.reach_of(ranks, rule.many(), mask))
-            self.assertEqual(handed, before)
-
-    def check_rings(self, rule, free, some):
-        for thing in range(rule.many()):
-            if thing in some:
-                continue
-            found = words.rings_in(free, words.mask_of(some + [thing]))
-            self.assertLessEqual(len(found), 1)
-            wanted = found[0] if found else []
-            for handed in words.orders(some):
-                before = list(handed)
-                self.assertEqual(ring(rule, handed, thing), wanted)
-                self.assertEqual(handed, before)
-            if wanted:
-                self.assertIn(thing, wanted)
-
+class TableTest(checking.RankChecks):
     def test_small_grounds(self):
         for rule in samples.small_rules():
             with self.subTest(rule=vars(rule)):
-                free = words.free_table(rule)
-                ranks = words.rank_table(free)
-                for some in words.sets_of(rule.many()):
-                    self.check_set(rule, ranks, some)
-                    if free[words.mask_of(some)]:
-                        self.check_rings(rule, free, some)
+                self.check_ranks_and_rings(rule, words.free_table(rule))
 
     def test_grounds_of_sixteen_things(self):
         for rule in samples.great_rules():
@@ -61,9 +23,9 @@ class TableTest(unittest.TestCase):
                 source = Random(16)
                 chosen = [source.sample(range(16), count) for count in range(17) for turn in range(6)]
                 for some in chosen:
-                    self.check_set(rule, ranks, sorted(some))
+                    self.check_ranks(rule, ranks, sorted(some))
                 for some in chosen[::3]:
-                    self.check_rings(rule, free, grown_by_the_words(rule, some))
+                    self.check_rings(rule, free, checking.grown_by_the_words(rule, some))
 
 
 class RanksTest(unittest.TestCase):

@@ -4,7 +4,7 @@ import unittest
 from random import Random
 
 from freesets.rules import Bits, Kinds, Posts, Rule, Threads
-from tests import grounds, words
+from tests import checking, grounds, words
 
 
 def chosen_sets(seed):
@@ -13,17 +13,7 @@ def chosen_sets(seed):
     return [source.sample(range(16), count) for count in range(17) for turn in range(40)]
 
 
-class RuleTest(unittest.TestCase):
-    def check_all_sets(self, rule, free, many):
-        self.assertIsInstance(rule, Rule)
-        self.assertEqual(rule.many(), many)
-        for some in words.sets_of(many):
-            wanted = free(some)
-            for handed in words.orders(some):
-                self.assertIs(rule.free(handed), wanted, handed)
-
-
-class ThreadsTest(RuleTest):
+class ThreadsTest(checking.FreeChecks):
     def test_small_grounds(self):
         for places, ties in grounds.threads_small():
             with self.subTest(places=places, ties=ties):
@@ -68,7 +58,7 @@ class ThreadsTest(RuleTest):
             self.assertIs(rule.free(some), len(parts) == places - len(some), some)
 
 
-class KindsTest(RuleTest):
+class KindsTest(checking.FreeChecks):
     def test_small_grounds(self):
         for kinds, most in grounds.kinds_small():
             with self.subTest(kinds=kinds, most=most):
@@ -97,7 +87,7 @@ class KindsTest(RuleTest):
             self.assertIs(rule.free(some), words.kinds_free(kinds, most, some), some)
 
 
-class PostsTest(RuleTest):
+class PostsTest(checking.FreeChecks):
     def test_small_grounds(self):
         for wants in grounds.posts_small():
             with self.subTest(wants=wants):
@@ -138,7 +128,7 @@ class PostsTest(RuleTest):
                 self.assertIs(rule.free(some), words.posts_free(wants, some), some)
 
 
-class BitsTest(RuleTest):
+class BitsTest(checking.FreeChecks):
     def test_small_grounds(self):
         for rows in grounds.bits_small():
             with self.subTest(rows=rows):

@@ -1,33 +1,13 @@
 """Wrong inputs, each by its own error, and what is just within each bound."""
 
-import unittest
-
-from freesets.errors import BadRule, BadThing, FreeError, NotFree
+from freesets.errors import BadRule, BadThing, NotFree
 from freesets.ranks import grown, rank, reach, ring
 from freesets.rules import Bits, Kinds, Posts, Threads
 from tests import samples
-
-HUGE = 10 ** 5000
-NO_NUMBERS = (True, False, None, "0", 0.0, 1.5, b"0", [0], (0,), {0: 0}, [], object())
-NO_LISTS = (None, True, 0, "", "01", (), (0,), {}, {0: 1}, set(), {0}, range(1), b"", iter([]), object())
+from tests.checking import HUGE, NO_LISTS, NO_NUMBERS, WrongChecks
 
 
-def shown(given):
-    try:
-        return repr(given)[:80]
-    except ValueError:
-        return "a number too long to show"
-
-
-class WrongTest(unittest.TestCase):
-    def refuses(self, error, made, *given):
-        with self.subTest(made=made.__name__, given=shown(given)):
-            with self.assertRaises(FreeError) as caught:
-                made(*given)
-            self.assertIs(type(caught.exception), error)
-
-
-class BadRuleTest(WrongTest):
+class BadRuleTest(WrongChecks):
     def test_places(self):
         for places in NO_NUMBERS + (0, -1, 21, HUGE, -HUGE):
             self.refuses(BadRule, Threads, places, [])
@@ -127,7 +107,7 @@ def ring_of_the_last(rule, some):
     return ring(rule, some, rule.many() - 1)
 
 
-class BadThingTest(WrongTest):
+class BadThingTest(WrongChecks):
     def refuses_set(self, rule, some):
         for asked in (free, rank, grown, reach, ring_of_the_last):
             self.refuses(BadThing, asked, rule, some)
@@ -172,7 +152,7 @@ class BadThingTest(WrongTest):
             self.assertIn(ring(rule, [], 15), ([], [15]))
 
 
-class RingTest(WrongTest):
+class RingTest(WrongChecks):
     def test_no_thing(self):
         for rule in RULES:
             for thing in NO_NUMBERS + (-1, 3, HUGE, -HUGE):
