@@ -1,9 +1,11 @@
-"""What is a number, a thing and a set, and the refusal of what is none.
+"""What is a number, a thing, a set and weights, and the refusal of what is none.
 
 No message shows the value that it refuses: Python cannot show a very long number.
 """
 
-from freesets.errors import BadThing
+from freesets.errors import BadThing, BadWeights
+
+GREATEST_WEIGHT = 1000000000
 
 
 def is_number(value):
@@ -29,3 +31,10 @@ def check_set(some, many):
         if thing in seen:
             raise BadThing("no thing stands twice in a set")
         seen.append(thing)
+
+
+def check_weights(weights, many):
+    if not isinstance(weights, list) or len(weights) != many:
+        raise BadWeights("weights are handed in as a list of one for each thing")
+    if not all([is_within(weight, -GREATEST_WEIGHT, GREATEST_WEIGHT) for weight in weights]):
+        raise BadWeights("a weight is a number from -1000000000 to 1000000000")

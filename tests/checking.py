@@ -27,6 +27,15 @@ class WrongChecks(unittest.TestCase):
             self.assertIs(type(caught.exception), error)
 
 
+class SetChecks(unittest.TestCase):
+    def check_set(self, some, many):
+        self.assertIs(type(some), list)
+        self.assertEqual(some, sorted(set(some)))
+        for thing in some:
+            self.assertIs(type(thing), int)
+            self.assertIn(thing, range(many))
+
+
 class FreeChecks(unittest.TestCase):
     def check_all_sets(self, rule, free, many):
         """Each set of the ground, in several orders, by a function that tells what is free."""

@@ -1,5 +1,7 @@
 """Rules of every sort over the grounds, for the tests that ask the same of all sorts."""
 
+from functools import cache
+
 from freesets.made import Beside, Cut, Held, Joined, Kept, Turned
 from freesets.rules import Bits, Kinds, Posts, Threads
 from tests import grounds, words, words_made
@@ -27,6 +29,12 @@ def great_rules():
     ]
 
 
+@cache
+def great_tables():
+    """The rules over 16 things, and tables of what is free, which take long to fill."""
+    return [(rule, words.free_table(rule)) for rule in great_rules()]
+
+
 def few_rules():
     """A few small rules of each sort, of 0 to 5 things, for the tests that ask much of each."""
     return [
@@ -42,6 +50,22 @@ def few_rules():
 
 def of_size(rules, many):
     return [rule for rule in rules if rule.many() == many]
+
+
+def every_way(rule, free):
+    """What is made of the rule in each way, and the tables of what is free then."""
+    things = list(range(rule.many()))
+    found = [
+        (Turned(rule), words_made.turned(free)),
+        (Cut(rule, 2), words_made.cut(free, 2)),
+        (Kept(rule, things[:0:-1]), words_made.kept(free, things[:0:-1])),
+        (Held(rule, things[:1]), words_made.held(free, things[:1])),
+        (Joined([rule, rule]), words_made.joined([free, free])),
+    ]
+    if rule.many() < 5:
+        one = Kinds([0], [1])
+        found.append((Beside(rule, one), words_made.beside(free, words.free_table(one))))
+    return found
 
 
 def random_sort(source, many):

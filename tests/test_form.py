@@ -4,11 +4,12 @@ import ast
 import builtins
 import re
 import unittest
+from functools import cache
 from pathlib import Path
 
 PACKAGE = Path(__file__).resolve().parent.parent / "freesets"
 
-# For each landed file: its functions with their arguments, and its classes with their methods.
+# For each file of the interface: its functions with their arguments, and its classes with their methods.
 INTERFACE = {
     "errors": {
         "FreeError": {}, "BadRule": {}, "BadThing": {}, "BadWeights": {}, "NotFree": {}, "NotWhole": {}, "BadText": {},
@@ -37,6 +38,13 @@ INTERFACE = {
         "Crowded": {"__init__": ["some"]}, "Bar": {"__init__": ["some"]}, "Common": {"__init__": ["some", "part"]},
     },
     "parting": {"parted": ["rules"], "covered": ["rule", "times"], "packed": ["rule", "times"]},
+    "wholes": {
+        "whole": ["rule"], "is_whole": ["rule", "some"], "changes": ["rule", "one", "other"],
+        "both_ways": ["rule", "one", "other", "thing"], "wholes": ["rule"], "rings": ["rule"],
+        "heaviest": ["rule", "weights"], "lightest": ["rule", "weights"],
+    },
+    "meeting": {"common": ["one", "other"]},
+    "texts": {"written": ["rule"], "read": ["text"]},
 }
 
 BUILTINS = set(
@@ -58,6 +66,7 @@ def files():
     return sorted(PACKAGE.glob("*.py"))
 
 
+@cache
 def trees():
     return [(path.name, ast.parse(path.read_text())) for path in files()]
 
@@ -85,10 +94,12 @@ def names_bound(tree):
     return found
 
 
+@cache
 def methods_defined():
     return {part.name for name, node in every(ast.ClassDef) for part in node.body if isinstance(part, ast.FunctionDef)}
 
 
+@cache
 def attributes_stored():
     return {node.attr for name, node in every(ast.Attribute) if isinstance(node.ctx, ast.Store)}
 

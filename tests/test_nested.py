@@ -9,28 +9,12 @@ from freesets.rules import Bits, Kinds, Threads
 from tests import checking, samples, words, words_made
 
 
-def every_way(rule, free):
-    """The rule made of in each way, and the tables of what is free then."""
-    things = list(range(rule.many()))
-    found = [
-        (Turned(rule), words_made.turned(free)),
-        (Cut(rule, 2), words_made.cut(free, 2)),
-        (Kept(rule, things[:0:-1]), words_made.kept(free, things[:0:-1])),
-        (Held(rule, things[:1]), words_made.held(free, things[:1])),
-        (Joined([rule, rule]), words_made.joined([free, free])),
-    ]
-    if rule.many() < 5:
-        one = Kinds([0], [1])
-        found.append((Beside(rule, one), words_made.beside(free, words.free_table(one))))
-    return found
-
-
 class NestedTest(checking.FreeChecks):
     def test_each_way_of_each_way_of_each_way(self):
         for rule in (Threads(3, [(0, 1), (1, 2), (2, 0), (0, 1)]), Bits([1, 2, 3, 0])):
-            for near, near_free in every_way(rule, words.free_table(rule)):
-                for far, far_free in every_way(near, near_free):
-                    for made, free in every_way(far, far_free):
+            for near, near_free in samples.every_way(rule, words.free_table(rule)):
+                for far, far_free in samples.every_way(near, near_free):
+                    for made, free in samples.every_way(far, far_free):
                         with self.subTest(near=type(near), far=type(far), made=type(made)):
                             self.check_table(made, free)
 
@@ -67,7 +51,7 @@ class NestedRanksTest(checking.RankChecks):
     def test_each_way(self):
         for rule in samples.few_rules():
             if rule.many() < 5:
-                for made, free in every_way(rule, words.free_table(rule)):
+                for made, free in samples.every_way(rule, words.free_table(rule)):
                     with self.subTest(rule=vars(rule), made=type(made)):
                         self.check_ranks_and_rings(made, free)
 
@@ -92,7 +76,7 @@ class NestedRanksTest(checking.RankChecks):
 class NestedExchangeTest(checking.ExchangeChecks):
     def test_each_way(self):
         for rule in samples.few_rules():
-            for made, free in every_way(rule, words.free_table(rule)):
+            for made, free in samples.every_way(rule, words.free_table(rule)):
                 with self.subTest(rule=vars(rule), made=type(made)):
                     self.check_exchange(made)
 

@@ -3,60 +3,15 @@
 import unittest
 from random import Random
 
-from freesets.answers import Answer, Bar, Crowded, Packs, Parts
+from freesets.answers import Bar, Crowded, Packs, Parts
 from freesets.made import Beside, Cut, Held, Joined, Kept, Turned
 from freesets.parting import covered, packed, parted
 from freesets.ranks import rank
 from freesets.rules import Bits, Kinds, Posts, Threads
 from tests import samples, words, words_made
+from tests.checking_answers import PartingChecks
 
 EMPTY = [Threads(1, []), Kinds([], [3]), Posts([]), Bits([])]
-
-
-class PartingChecks(unittest.TestCase):
-    """An answer that is what it says it is, is the right one: no ground has both."""
-
-    def check_set(self, some, many):
-        self.assertIs(type(some), list)
-        self.assertEqual(some, sorted(set(some)))
-        for thing in some:
-            self.assertIs(type(thing), int)
-            self.assertIn(thing, range(many))
-
-    def check_parted(self, answer, rules):
-        many = rules[0].many()
-        self.assertIsInstance(answer, Answer)
-        if isinstance(answer, Parts):
-            self.assertIs(type(answer.parts), list)
-            self.assertEqual(len(answer.parts), len(rules))
-            for rule, part in zip(rules, answer.parts):
-                self.check_set(part, many)
-                self.assertIs(rule.free(part), True)
-            self.assertEqual(sorted(sum(answer.parts, [])), list(range(many)))
-            return True
-        self.assertIsInstance(answer, Crowded)
-        self.check_set(answer.some, many)
-        self.assertGreater(len(answer.some), sum(rank(rule, answer.some) for rule in rules))
-        return False
-
-    def check_packed(self, answer, rule, times):
-        many = rule.many()
-        most = rank(rule, list(range(many)))
-        self.assertIsInstance(answer, Answer)
-        if isinstance(answer, Packs):
-            self.assertIs(type(answer.packs), list)
-            self.assertEqual(len(answer.packs), times)
-            for pack in answer.packs:
-                self.check_set(pack, many)
-                self.assertEqual(len(pack), most)
-                self.assertIs(rule.free(pack), True)
-            together = sum(answer.packs, [])
-            self.assertEqual(len(set(together)), len(together))
-            return True
-        self.assertIsInstance(answer, Bar)
-        self.check_set(answer.some, many)
-        self.assertLess(many - len(answer.some), times * (most - rank(rule, answer.some)))
-        return False
 
 
 class PartedTest(PartingChecks):

@@ -15,10 +15,9 @@ class TableTest(checking.RankChecks):
                 self.check_ranks_and_rings(rule, words.free_table(rule))
 
     def test_grounds_of_sixteen_things(self):
-        for rule in samples.great_rules():
+        for rule, free in samples.great_tables():
             with self.subTest(rule=vars(rule)):
                 self.assertEqual(rule.many(), 16)
-                free = words.free_table(rule)
                 ranks = words.rank_table(free)
                 source = Random(16)
                 chosen = [source.sample(range(16), count) for count in range(17) for turn in range(6)]
