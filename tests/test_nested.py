@@ -6,7 +6,7 @@ from freesets.made import Beside, Cut, Held, Joined, Kept, Turned
 from freesets.parting import packed, parted
 from freesets.ranks import grown, rank, reach, ring
 from freesets.rules import Bits, Kinds, Threads
-from tests import checking, samples, words, words_made
+from tests import checking, samples, words
 
 
 class NestedTest(checking.FreeChecks):

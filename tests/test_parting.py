@@ -1,12 +1,10 @@
 """Points 10 and 11: parted or crowded, packed or barred, never both."""
 
-import unittest
 from random import Random
 
 from freesets.answers import Bar, Crowded, Packs, Parts
 from freesets.made import Beside, Cut, Held, Joined, Kept, Turned
 from freesets.parting import covered, packed, parted
-from freesets.ranks import rank
 from freesets.rules import Bits, Kinds, Posts, Threads
 from tests import samples, words, words_made
 from tests.checking_answers import PartingChecks
